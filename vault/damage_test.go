@@ -188,17 +188,17 @@ func TestForeignBytesAreAsIfTheyWerent(t *testing.T) {
 	}
 }
 
-// crafted: a disk on which, beside the snapshots, a manifest of n lies whose one chunk has these bytes, all names and sums being right.
+// crafted: a disk on which, beside the snapshots, a manifest of n lies whose one chunk has these bytes, all names, lengths and sums being right.
 func crafted(t *testing.T, d *disk.Disk, n uint64, chunk []byte) *disk.Disk {
 	t.Helper()
 	number := strconv.FormatUint(n, 36)
 	name := "part." + number + ".0." + strconv.FormatUint(uint64(codec.Sum(chunk)), 36)
 	b, e := codec.Manifest(api.Manifest{N: n, Epoch: 7, Files: []string{name}})
 	answers(t, "P1.5: Manifest", e, api.OK)
-	return withFile(withFile(d, name, chunk), "whole."+number, codec.Seal(b))
+	return withFile(withFile(d, name, codec.Seal(chunk)), "whole."+number, codec.Seal(b))
 }
 
-// Sums alone are not trusted: what lies behind them must be what a Put writes.
+// Neither lengths nor sums alone are trusted: what lies behind them must be what a Put writes.
 func TestForeignFilesWithTheRightSums(t *testing.T) {
 	d, _ := filled(t, 9, damagedOnes()...)
 	b, _ := codec.Snap(api.Snap{Task: 3})
@@ -206,6 +206,7 @@ func TestForeignFilesWithTheRightSums(t *testing.T) {
 	holds(t, "P3.1: the crafted one is as Put writes it", open(t, crafted(t, d, 5, part), 9), append(damagedOnes(), laid{5, 7, []api.Snap{{Task: 3}}})...)
 	for what, c := range map[string]*disk.Disk{
 		"number 0":           crafted(t, d, 0, part),
+		"a chunk of nothing": crafted(t, d, 5, nil),
 		"no seal":            crafted(t, d, 5, b),
 		"half a seal":        crafted(t, d, 5, slices.Concat(part, part[:9])),
 		"no part in a seal":  crafted(t, d, 5, codec.Seal(b[1:])),

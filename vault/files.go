@@ -20,6 +20,9 @@ const (
 // digits is the base of numbers in names: in decimal digits the longest name of a chunk would be longer than MaxName.
 const digits = 36
 
+// maxChunk is how many bytes a chunk has at most: its file has the 8 bytes of a seal beside them.
+const maxChunk = api.MaxFile - 8
+
 // snapshot: what the vault holds of one: its parts lie as sealed bytes, one behind the other, in chunks; parts has the names of the chunks.
 type snapshot struct {
 	n, epoch uint64
@@ -29,11 +32,7 @@ type snapshot struct {
 
 // manifest tells what is written into the snapshot's manifest.
 func (s snapshot) manifest() ([]byte, api.Errno) {
-	b, e := codec.Manifest(api.Manifest{N: s.n, Epoch: s.epoch, Files: s.parts})
-	if e != api.OK {
-		return nil, e
-	}
-	return codec.Seal(b), api.OK
+	return codec.Manifest(api.Manifest{N: s.n, Epoch: s.epoch, Files: s.parts})
 }
 
 // files tells the names of all files, the manifest's first: they are deleted in this order, and without a manifest the rest is no snapshot.
@@ -51,7 +50,7 @@ func pack(snaps []api.Snap) ([][]byte, api.Errno) {
 			return nil, e
 		}
 		sealed := codec.Seal(b)
-		if len(chunk)+len(sealed) > api.MaxFile {
+		if len(chunk)+len(sealed) > maxChunk {
 			chunks = append(chunks, chunk)
 			chunk = nil
 		}
@@ -63,7 +62,7 @@ func pack(snaps []api.Snap) ([][]byte, api.Errno) {
 	return chunks, api.OK
 }
 
-// unpack tells the parts that a chunk has, if it is one.
+// unpack tells the parts that a chunk has, if it is one: none is without parts.
 func unpack(chunk []byte) ([]api.Snap, bool) {
 	var snaps []api.Snap
 	for len(chunk) > 0 {
@@ -78,7 +77,7 @@ func unpack(chunk []byte) ([]api.Snap, bool) {
 		snaps = append(snaps, s)
 		chunk = chunk[size:]
 	}
-	return snaps, true
+	return snaps, len(snaps) > 0
 }
 
 // find tells the snapshot whose manifest has that name, if it is whole.
@@ -89,9 +88,9 @@ func find(d *disk.Disk, name string) (snapshot, bool) {
 	}
 	s := snapshot{n: m.N, epoch: m.Epoch, parts: m.Files}
 	for i, file := range m.Files {
-		chunk, e := d.Read(file)
+		chunk, ok := readFile(d, file)
 		// A chunk of another snapshot, or from another place of this one, may be as whole as the right one: its name tells.
-		if e != api.OK || file != partName(m.N, i, chunk) {
+		if !ok || file != partName(m.N, i, chunk) {
 			return snapshot{}, false
 		}
 		if _, ok := unpack(chunk); !ok {
@@ -107,12 +106,8 @@ func readManifest(d *disk.Disk, name string) (api.Manifest, bool) {
 	if !strings.HasPrefix(name, wholeHead) {
 		return api.Manifest{}, false
 	}
-	file, e := d.Read(name)
-	if e != api.OK {
-		return api.Manifest{}, false
-	}
-	b, size, e := codec.Open(file)
-	if e != api.OK || size != len(file) {
+	b, ok := readFile(d, name)
+	if !ok {
 		return api.Manifest{}, false
 	}
 	m, e := codec.OpenManifest(b)
@@ -120,6 +115,19 @@ func readManifest(d *disk.Disk, name string) (api.Manifest, bool) {
 		return api.Manifest{}, false
 	}
 	return m, true
+}
+
+// readFile tells what a file was written with, if it is whole. Each file is one seal: its length tells a torn one also where what is left of it has the same sum as all of it.
+func readFile(d *disk.Disk, name string) ([]byte, bool) {
+	file, e := d.Read(name)
+	if e != api.OK {
+		return nil, false
+	}
+	b, size, e := codec.Open(file)
+	if e != api.OK || size != len(file) {
+		return nil, false
+	}
+	return b, true
 }
 
 // wasted tells those of the names that a vault gave, and that none of the snapshots has.

@@ -397,7 +397,7 @@ func TestLargestParts(t *testing.T) {
 	}
 }
 
-// Two parts that fill a file to its last byte, with a seal of 8 bytes and 18 of its own each, and such that have one byte more.
+// Two parts that fill a file to its last byte, with a seal of 8 bytes and 18 of its own each, and the file's seal of 8; and such that have one byte more.
 func TestPartsThatJustFillAFile(t *testing.T) {
 	mark, barrier := api.Out{F: api.Frame{Kind: api.FrameMark}}, api.Out{F: api.Frame{Kind: api.FrameBarrier}}
 	for _, c := range []struct {
@@ -405,8 +405,8 @@ func TestPartsThatJustFillAFile(t *testing.T) {
 		captured []api.Out
 		files    int
 	}{
-		{65529, []api.Out{barrier}, 2},
-		{65525, []api.Out{mark, mark, mark, barrier}, 3},
+		{65528, []api.Out{barrier}, 2},
+		{65524, []api.Out{mark, mark, mark, barrier}, 3},
 	} {
 		s := laid{1, 1, []api.Snap{{Marks: make([]int64, 65535)}, {Marks: make([]int64, c.marks), Captured: c.captured}}}
 		d, v := filled(t, 1, s)
