@@ -31,6 +31,7 @@ type watch struct {
 	all       [][]api.Record
 	committed [][]api.Record
 	had       map[uint64]checkpoint
+	durable   []uint64
 	newest    uint64
 	epoch     uint64
 }
@@ -76,6 +77,7 @@ func (w *watch) holds() {
 func (w *watch) checkpoints() {
 	w.t.Helper()
 	l := w.Durable()
+	w.durable = l
 	if len(l) == 0 && w.newest > 0 || len(l) > 0 && l[len(l)-1] < w.newest || !slices.IsSorted(l) {
 		w.t.Fatalf("P30.2: durable are %v behind %d", l, w.newest)
 	}
@@ -226,6 +228,8 @@ func (w *watch) lives(r *rand.Rand, steps int) {
 		}
 		if step%16 == 0 {
 			w.holds()
+		} else if !slices.Equal(w.Durable(), w.durable) { // one that is gone may be found again, where its deleting met the power's end
+			w.checkpoints()
 		}
 	}
 	w.holds()
